@@ -1,0 +1,1 @@
+"""Glazetold: trials of mixtures, told by rows."""

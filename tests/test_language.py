@@ -1,0 +1,88 @@
+"""Those rules of ../shared/LANGUAGE.md that are soon looked up; the others stand on the reader's eye."""
+
+import ast
+import re
+import unittest
+from pathlib import Path
+
+PACKAGE = Path(__file__).resolve().parent.parent / "glazetold"
+
+BUILTINS = set("""
+    len range enumerate zip min max sum abs sorted reversed int str bool bytes list tuple dict set frozenset isinstance
+    ord repr any all divmod Exception ValueError TypeError KeyError IndexError LookupError ZeroDivisionError
+    ArithmeticError OverflowError RuntimeError NotImplementedError AttributeError StopIteration NotImplemented super
+    property staticmethod classmethod
+""".split())
+
+DUNDERS = set("__init__ __eq__ __repr__ __str__ __len__ __enter__ __exit__ __call__ __iter__".split())
+
+BARRED_WORDS = re.compile(
+    r"\b(type|typing|typing_extensions|enum|Enum|IntEnum|StrEnum|Flag|IntFlag|Generic|Protocol|ABC|ABCMeta"
+    r"|namedtuple|NamedTuple|TypedDict|TYPE_CHECKING|abstractmethod)\b|dataclass|overload|contextmanager"
+)
+
+
+def files():
+    return sorted(path for path in PACKAGE.iterdir() if path.name != "__pycache__")
+
+
+def trees():
+    return [(path.name, ast.parse(path.read_text())) for path in files()]
+
+
+class LanguageTest(unittest.TestCase):
+    def test_files(self):
+        self.assertIn("__init__.py", [path.name for path in files()])
+        for path in files():
+            self.assertRegex(path.name, r"\A([a-z][a-z0-9_]*|__init__|__main__)\.py\Z")
+
+    def test_characters_and_sizes(self):
+        for path in files():
+            text = path.read_bytes().decode("ascii")
+            self.assertEqual(re.findall(r"[^ -~\n]", text), [], path.name)
+            self.assertLessEqual(len(text.splitlines()), 400, path.name)
+            self.assertLessEqual(max(len(line) for line in text.splitlines()), 120, path.name)
+
+    def test_barred_words(self):
+        for path in files():
+            self.assertIsNone(BARRED_WORDS.search(path.read_text()), path.name)
+
+    def test_functions_are_small(self):
+        for name, tree in trees():
+            for node in ast.walk(tree):
+                if isinstance(node, ast.FunctionDef):
+                    self.assertLessEqual(node.end_lineno - node.lineno + 1, 40, (name, node.name))
+
+    def test_imports(self):
+        for name, tree in trees():
+            for node in ast.walk(tree):
+                self.assertNotIsInstance(node, ast.Import, name)
+                if isinstance(node, ast.ImportFrom):
+                    self.assertEqual(node.level, 0, name)
+                    self.assertRegex(node.module, r"\Aglazetold\.[a-z]+\Z", name)
+
+    def test_names(self):
+        for name, tree in trees():
+            bound = {"self"}
+            for node in ast.walk(tree):
+                if isinstance(node, (ast.FunctionDef, ast.ClassDef)):
+                    bound.add(node.name)
+                    self.assertTrue(not node.name.startswith("_") or node.name in DUNDERS, (name, node.name))
+                elif isinstance(node, ast.arg):
+                    bound.add(node.arg)
+                elif isinstance(node, ast.alias):
+                    bound.add(node.asname or node.name)
+                elif isinstance(node, ast.Name) and not isinstance(node.ctx, ast.Load):
+                    bound.add(node.id)
+            self.assertEqual(sorted(bound & BUILTINS), [], name)
+            used = {node.id for node in ast.walk(tree) if isinstance(node, ast.Name)}
+            self.assertEqual(sorted(used - bound - BUILTINS), [], name)
+
+    def test_values(self):
+        for name, tree in trees():
+            for node in ast.walk(tree):
+                self.assertNotIsInstance(node, ast.Div, name)
+                if isinstance(node, ast.Constant):
+                    self.assertNotIsInstance(node.value, float, name)
+                    if isinstance(node.value, str):
+                        self.assertNotIn("%", node.value, name)
