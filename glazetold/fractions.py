@@ -18,10 +18,23 @@ def common_measure(one, other):
     return one
 
 
+def common_multiple(one, other):
+    """The least common multiple of two whole numbers from 1 on."""
+    return one // common_measure(one, other) * other
+
+
 def fraction(top, bottom):
     """The fraction of top and bottom, a bottom from 1 on, in lowest terms."""
     measure = common_measure(abs(top), bottom)
     return (top // measure, bottom // measure)
+
+
+def rising(told):
+    """A new list of the told fractions, from the least one on."""
+    # Unlike fractions are at least 1 / scale apart, so that times the scale their whole parts are unlike, too.
+    greatest = max([bottom for top, bottom in told], default=1)
+    scale = greatest * greatest
+    return sorted(told, key=lambda one: one[0] * scale // one[1])
 
 
 def figures(number):

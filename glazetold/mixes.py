@@ -79,3 +79,12 @@ class Mix:
 
     def __str__(self):
         return ", ".join([f"{stuff} {figures(amount)}" for stuff, amount in self.amounts])
+
+
+def mix_of(parts):
+    """A mix of pairs that are known to be right, also of more pairs than are told at once."""
+    # A blend of mixes beyond the bounds may have more stuffs than a mix is told of, and no refusal is due there.
+    mix = Mix(parts[:1])
+    mix.amounts = least_amounts(parts)
+    mix.total = sum([amount for stuff, amount in mix.amounts])
+    return mix

@@ -1,8 +1,9 @@
 import math
+import random
 import unittest
 from fractions import Fraction
 
-from glazetold.fractions import NOUGHT, common_measure, figures, fraction, is_whole
+from glazetold.fractions import NOUGHT, common_measure, common_multiple, figures, fraction, is_whole, rising
 
 
 class WholeTest(unittest.TestCase):
@@ -25,6 +26,13 @@ class MeasureTest(unittest.TestCase):
         self.assertEqual(common_measure(6 * 10 ** 300, 15 * 10 ** 299), math.gcd(6 * 10 ** 300, 15 * 10 ** 299))
 
 
+class MultipleTest(unittest.TestCase):
+    def test_small_numbers(self):
+        for one in range(1, 40):
+            for other in range(1, 40):
+                self.assertEqual(common_multiple(one, other), math.lcm(one, other))
+
+
 class FractionTest(unittest.TestCase):
     def test_lowest_terms(self):
         for top in range(-30, 31):
@@ -40,6 +48,28 @@ class FractionTest(unittest.TestCase):
         told = fraction(4, 6)
         self.assertIs(type(told), tuple)
         self.assertEqual([type(number) for number in told], [int, int])
+
+
+class RisingTest(unittest.TestCase):
+    def assert_rising(self, told):
+        kept = list(told)
+        self.assertEqual(rising(told), sorted(told, key=lambda pair: Fraction(*pair)))
+        self.assertEqual(told, kept)
+
+    def test_none(self):
+        self.assertEqual(rising([]), [])
+
+    def test_small_ones(self):
+        told = sorted({fraction(top, bottom) for bottom in range(1, 20) for top in range(bottom + 1)})
+        random.Random(1).shuffle(told)
+        self.assert_rising(told)
+
+    def test_neighbours_that_are_as_near_as_can_be(self):
+        for bottom in (2, 3, 10, 10 ** 40, 10 ** 400):
+            for one, other in (((1, bottom), (1, bottom + 1)), ((bottom - 1, bottom), (bottom, bottom + 1))):
+                self.assert_rising([one, other])
+                self.assert_rising([other, one])
+                self.assert_rising([(1, 1), one, (0, 1), other])
 
 
 class FiguresTest(unittest.TestCase):

@@ -86,3 +86,55 @@ class LanguageTest(unittest.TestCase):
                     self.assertNotIsInstance(node.value, float, name)
                     if isinstance(node.value, str):
                         self.assertNotIn("%", node.value, name)
+
+    def test_no_local_name_hides_an_import_or_a_class(self):
+        for name, tree in trees():
+            outer = {alias.name for node in ast.walk(tree) if isinstance(node, ast.ImportFrom) for alias in node.names}
+            outer |= {node.name for node in ast.walk(tree) if isinstance(node, ast.ClassDef)}
+            local = {node.arg for node in ast.walk(tree) if isinstance(node, ast.arg)}
+            local |= {node.id for node in ast.walk(tree) if isinstance(node, ast.Name)
+                      and not isinstance(node.ctx, ast.Load)}
+            self.assertEqual(sorted(outer & local), [], name)
+
+    def test_imports_name_the_defining_file_and_are_used(self):
+        defined = {}
+        for name, tree in trees():
+            bound = {node.name for node in tree.body if isinstance(node, (ast.FunctionDef, ast.ClassDef))}
+            bound |= {target.id for node in tree.body if isinstance(node, ast.Assign) for target in node.targets}
+            defined["glazetold." + name[:-3]] = bound
+        for name, tree in trees():
+            used = {node.id for node in ast.walk(tree) if isinstance(node, ast.Name)}
+            for node in ast.walk(tree):
+                if isinstance(node, ast.ImportFrom):
+                    for alias in node.names:
+                        self.assertIn(alias.name, defined[node.module], name)
+                        self.assertIn(alias.name, used, name)
+
+    def test_no_file_imports_itself_through_others(self):
+        needs = {}
+        for name, tree in trees():
+            needs["glazetold." + name[:-3]] = {node.module for node in ast.walk(tree)
+                                               if isinstance(node, ast.ImportFrom)}
+        for name in needs:
+            reached = set(needs[name])
+            for _ in needs:
+                reached |= {more for one in reached for more in needs[one]}
+            self.assertNotIn(name, reached)
+
+    def test_no_generator_expressions_and_no_sort(self):
+        # Classes have an equality of their own, so lists are handed to any, all, min, max, sum and sorted.
+        for name, tree in trees():
+            for node in ast.walk(tree):
+                self.assertNotIsInstance(node, ast.GeneratorExp, name)
+                if isinstance(node, ast.Attribute):
+                    self.assertNotEqual(node.attr, "sort", name)
+
+    def test_no_name_is_a_method_and_an_attribute(self):
+        methods, attributes = set(), set()
+        for name, tree in trees():
+            for node in ast.walk(tree):
+                if isinstance(node, ast.ClassDef):
+                    methods |= {own.name for own in node.body if isinstance(own, ast.FunctionDef)}
+                elif isinstance(node, ast.Attribute) and isinstance(node.ctx, ast.Store):
+                    attributes.add(node.attr)
+        self.assertEqual(sorted(methods & attributes), [])

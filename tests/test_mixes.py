@@ -6,7 +6,7 @@ from fractions import Fraction
 from itertools import permutations
 
 from glazetold.errors import AskedError, GlazeError, NoMix, ToldError
-from glazetold.mixes import Mix, is_name
+from glazetold.mixes import Mix, is_name, mix_of
 from tests.anything import THINGS
 
 LETTERS = "abcdefghijklmnopqrstuvwxyz"
@@ -348,6 +348,23 @@ class TextTest(unittest.TestCase):
         mix = Mix(pairs(60))
         words = [word.split(" ") for word in str(mix).split(", ")]
         self.assertEqual(Mix(tuple((stuff, int(amount)) for stuff, amount in words)), mix)
+
+
+class MixOfTest(unittest.TestCase):
+    def test_as_a_mix_is_made(self):
+        for parts in ((("flint", 25), ("clay", 75)), (("clay", 100),), pairs(60)):
+            told = mix_of(parts)
+            self.assertIs(type(told), Mix)
+            self.assertEqual(told, Mix(parts))
+            self.assertEqual(told.shares(), Mix(parts).shares())
+            self.assertEqual(told.least(), Mix(parts).least())
+            self.assertEqual(str(told), str(Mix(parts)))
+
+    def test_more_pairs_than_are_told_at_once(self):
+        told = mix_of(pairs(70))
+        self.assertEqual(len(told), 70)
+        self.assertEqual(told.least(), pairs(70))
+        self.assertEqual(sum(as_fraction(share) for stuff, share in told.shares()), 1)
 
 
 class InterfaceTest(unittest.TestCase):
