@@ -58,6 +58,13 @@ class Trial:
         )
 
 
+def copy_of(trial):
+    """A trial of its own that has the same parts."""
+    return Trial(
+        trial.house, trial.number, trial.day, trial.mix, trial.fire, trial.place, trial.look, trial.measure
+    )
+
+
 def bag_of(bags, stuff, day):
     """The bag of a stuff on a day: how many of its days are not later."""
     return len([since for own, since in bags if own == stuff and since <= day])
@@ -72,12 +79,12 @@ def parts(trials, bags, stuff):
     return [(bag, found[bag]) for bag in sorted(found)]
 
 
-def bags_used(bags, trial):
-    """The bag of each stuff of a trial on its day, rising by stuffs."""
+def bags_used(bags, mix, day):
+    """The bag of each stuff of a mix on a day, rising by stuffs."""
     # As bag_of tells for one stuff, but for all of them the bags are gone through only once.
-    used = {stuff: 0 for stuff, amount in trial.mix.least()}
+    used = {stuff: 0 for stuff, amount in mix.least()}
     for stuff, since in bags:
-        if stuff in used and since <= trial.day:
+        if stuff in used and since <= day:
             used[stuff] += 1
     return used
 
@@ -99,13 +106,14 @@ def unlike_bags(used, others):
 
 def unlike(bags, one, other):
     """The list of things in which two trials are unlike."""
-    return unlike_but_bags(one, other) + unlike_bags(bags_used(bags, one), bags_used(bags, other))
+    used, others = bags_used(bags, one.mix, one.day), bags_used(bags, other.mix, other.day)
+    return unlike_but_bags(one, other) + unlike_bags(used, others)
 
 
 def pairs(trials, bags=None):
     """The list of tuples (one, other, thing) of all trials that are unlike in just one thing."""
     told = () if bags is None else bags
-    used = [bags_used(told, trial) for trial in trials]
+    used = [bags_used(told, trial.mix, trial.day) for trial in trials]
     found = []
     for one in range(len(trials)):
         for other in range(one + 1, len(trials)):
