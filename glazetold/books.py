@@ -7,7 +7,7 @@ from glazetold.trials import copy_of, is_day, pairs
 
 
 def not_known(trials, known):
-    """Those of the trials, each once, by house and number, that are not known; Clash where two are unlike."""
+    """Copies of those trials, each once, by house and number, that are not known; Clash where two are unlike."""
     found = {}
     clashes = []
     for trial in trials:
@@ -18,13 +18,13 @@ def not_known(trials, known):
     if clashes:
         house, number = min(clashes)
         raise Clash(house, number)
-    return found
+    return {key: copy_of(found[key]) for key in found}
 
 
 def joined(lists):
     """The list of all trials of the lists, each once, rising by house and number."""
     found = not_known([trial for trials in lists for trial in trials], {})
-    return [copy_of(found[key]) for key in sorted(found)]
+    return [found[key] for key in sorted(found)]
 
 
 def count_houses(keys):
@@ -51,7 +51,7 @@ class Book:
         """Tells a list of trials, all or none: how many the book had not."""
         found = not_known(trials, self.held)
         for key in found:
-            self.held[key] = copy_of(found[key])
+            self.held[key] = found[key]
         self.deeds.append((list(found), []))
         return len(found)
 

@@ -22,6 +22,13 @@ BARRED_WORDS = re.compile(
 )
 
 
+METHODS = set("""
+    append clear copy count endswith extend find get index insert isalnum isalpha isdigit islower isspace isupper items
+    join keys ljust lower lstrip partition pop remove replace reverse rfind rjust rpartition rsplit rstrip setdefault
+    split splitlines startswith strip update upper values zfill bit_length add discard __init__
+""".split())
+
+
 def files():
     return sorted(path for path in PACKAGE.iterdir() if path.name != "__pycache__")
 
@@ -138,3 +145,31 @@ class LanguageTest(unittest.TestCase):
                 elif isinstance(node, ast.Attribute) and isinstance(node.ctx, ast.Store):
                     attributes.add(node.attr)
         self.assertEqual(sorted(methods & attributes), [])
+
+    def test_attributes_are_own_ones_or_known_methods(self):
+        own, read = set(), set()
+        for name, tree in trees():
+            for node in ast.walk(tree):
+                if isinstance(node, ast.ClassDef):
+                    own |= {method.name for method in node.body if isinstance(method, ast.FunctionDef)}
+                elif isinstance(node, ast.Attribute) and isinstance(node.ctx, ast.Store):
+                    own.add(node.attr)
+                elif isinstance(node, ast.Attribute):
+                    read.add(node.attr)
+        self.assertEqual(sorted(read - own - METHODS), [])
+
+    def test_errors_are_raised_on_the_spot_and_caught_by_their_names(self):
+        for name, tree in trees():
+            own = {alias.name for node in tree.body if isinstance(node, ast.ImportFrom) for alias in node.names}
+            for node in ast.walk(tree):
+                if isinstance(node, ast.Raise):
+                    self.assertIn(node.exc.func.id, own, name)
+                elif isinstance(node, ast.ExceptHandler):
+                    self.assertIn(node.type.id, own, name)
+
+    def test_names_are_bound_once_at_module_level(self):
+        for name, tree in trees():
+            bound = [alias.name for node in tree.body if isinstance(node, ast.ImportFrom) for alias in node.names]
+            bound += [node.name for node in tree.body if isinstance(node, (ast.FunctionDef, ast.ClassDef))]
+            bound += [target.id for node in tree.body if isinstance(node, ast.Assign) for target in node.targets]
+            self.assertEqual(len(bound), len(set(bound)), name)

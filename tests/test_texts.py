@@ -22,7 +22,7 @@ NUMBERS = {1: (1, 10 ** 6), 2: (0, 10 ** 6), 7: (0, 1000)}
 NAMES = (0, 4, 5, 6)
 
 WRONG_NUMBERS = ("", " ", "00", "01", "007", "-1", "-0", "+1", "+0", "1.0", "1e3", "0x1", "1_0", "1 ", " 1", "1\n", "\t1",
-                 "a", "one", "1000000000", "9" * 10, "0" * 9 + "1", "9" * 2000, "None", "True",
+                 "a", "x", "1x", "one", "1000000000", "9" * 10, "0" * 9 + "1", "9" * 2000, "None", "True",
                  "\u0663", "\u00b2", "\uff11", "1\u0663", "\u096a")
 WRONG_NAMES = ("", " ", "Hot", "HOT", "hoT", "h1", "1", "abcdefghi", "a" * 2000, "h-ot", "h_ot", "hot\n", "\thot", "`",
                "{", "~", "h\u00e9", "\u00df")
@@ -93,6 +93,19 @@ class MixTest(Refusals):
         for word in WRONG_NAMES:
             self.assert_no_text(read_mix, f"{word}:1")
             self.assert_no_text(read_mix, f"clay:1+{word}:1")
+
+    def test_each_sign(self):
+        for sign in map(chr, range(0, 256)):
+            for text in (f"c{sign}:1", f"{sign}c:1"):
+                if sign in "abcdefghijklmnopqrstuvwxyz":
+                    self.assertEqual(mix_text(read_mix(text)), text)
+                else:
+                    self.assert_no_text(read_mix, text)
+            if sign in "0123456789":
+                self.assertEqual(read_mix(f"ash:1+clay:1{sign}").least()[1], ("clay", int("1" + sign)))
+            else:
+                self.assert_no_text(read_mix, f"ash:1+clay:1{sign}")
+                self.assert_no_text(read_mix, f"ash:1+clay:{sign}1")
 
     def test_stuffs_told_twice(self):
         for text in ("clay:1+clay:1", "clay:1+clay:2", "clay:1+flint:1+clay:1"):
